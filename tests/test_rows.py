@@ -3,65 +3,12 @@
 import random
 import unittest
 
+from helpers import Refusing, all_rows, beside_by_letters, done, done_both, letter_at, random_pair, random_row
+
 from twinwires.errors import NoProduct, NoRow, NoText
 from twinwires.rows import checked_row, goes_beside, letters_of, row_of, times, weight_of
 
 SOME_N = (1, 2, 3, 7, 8, 20, 39, 40)
-
-
-def all_rows(n):
-    return [(minus, xs, zs) for minus in (0, 1) for xs in range(1 << n) for zs in range(1 << n)]
-
-
-def random_row(chance, n):
-    return (chance.getrandbits(1), chance.getrandbits(n), chance.getrandbits(n))
-
-
-def random_pair(chance, n, beside):
-    while True:
-        one = random_row(chance, n)
-        other = random_row(chance, n)
-        if beside_by_letters(one, other, n) == beside:
-            return one, other
-
-
-def letter_at(row, k):
-    return {(0, 0): "", (1, 0): "x", (0, 1): "z", (1, 1): "y"}[(row[1] >> k & 1, row[2] >> k & 1)]
-
-
-def beside_by_letters(one, other, n):
-    """Two letters at one wire don't go beside one another where they are unlike."""
-    pairs = [(letter_at(one, k), letter_at(other, k)) for k in range(n)]
-    return sum(1 for a, b in pairs if a and b and a != b) % 2 == 0
-
-
-def done(row, number, n):
-    """Point 5, wire by wire: the number reached, and how many times i the factor is (0 to 3)."""
-    quarters = 2 * row[0]
-    for k in range(n):
-        letter = letter_at(row, k)
-        if letter in ("z", "y") and number >> k & 1:
-            quarters += 2
-        if letter == "y":
-            quarters += 1
-    for k in range(n):
-        if letter_at(row, k) in ("x", "y"):
-            number ^= 1 << k
-    return number, quarters % 4
-
-
-def done_both(first, second, number, n):
-    """What the two rows do one behind the other."""
-    reached, quarters = done(first, number, n)
-    reached, more = done(second, reached, n)
-    return reached, (quarters + more) % 4
-
-
-class Refusing(unittest.TestCase):
-    def refused(self, kind, call, *args):
-        with self.assertRaises(kind) as taken:
-            call(*args)
-        self.assertIs(type(taken.exception), kind)
 
 
 class CheckedRow(Refusing):

@@ -19,4 +19,8 @@ def ones(number):
 
 
 def places(number):
-    return [k for k in range(number.bit_length()) if (number >> k) & 1 == 1]
+    return [k for k in range(number.bit_length()) if bit_at(number, k) == 1]
+
+
+def bit_at(number, k):
+    return (number >> k) & 1

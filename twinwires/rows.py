@@ -1,6 +1,6 @@
 """Rows of signs: tuples (minus, xs, zs), their products and their texts."""
 
-from twinwires.bits import MOST_WIRES, is_whole_number, ones
+from twinwires.bits import MOST_WIRES, bit_at, is_whole_number, ones
 from twinwires.errors import NoProduct, NoRow, NoText
 
 MINUS = 0
@@ -61,9 +61,7 @@ def letters_of(row, n):
 
 
 def sign_at(row, k):
-    x = (row[XS] >> k) & 1
-    z = (row[ZS] >> k) & 1
-    return SIGNS[x + 2 * z]
+    return SIGNS[bit_at(row[XS], k) + 2 * bit_at(row[ZS], k)]
 
 
 def row_of(text):
