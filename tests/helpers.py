@@ -3,6 +3,7 @@
 Nothing here draws on the package: what it tells is held against this.
 """
 
+import functools
 import unittest
 
 # The six words of deeds, and on how many wires each is done.
@@ -43,7 +44,8 @@ def random_pair(chance, n, beside):
 
 
 def letter_at(row, k):
-    return {(0, 0): "", (1, 0): "x", (0, 1): "z", (1, 1): "y"}[(row[1] >> k & 1, row[2] >> k & 1)]
+    x, z = row[1] >> k & 1, row[2] >> k & 1
+    return (("", "z"), ("x", "y"))[x][z]
 
 
 def row_of_letters(minus, letters):
@@ -59,8 +61,9 @@ def minus_of(row):
 
 def beside_by_letters(one, other, n):
     """Two letters at one wire don't go beside one another where they are unlike."""
-    pairs = [(letter_at(one, k), letter_at(other, k)) for k in range(n)]
-    return sum(1 for a, b in pairs if a and b and a != b) % 2 == 0
+    shared = (one[1] | one[2]) & (other[1] | other[2])
+    wires = [k for k in range(n) if shared >> k & 1]
+    return sum(1 for k in wires if letter_at(one, k) != letter_at(other, k)) % 2 == 0
 
 
 def done(row, number, n):
@@ -213,6 +216,119 @@ def random_work_with_looks(chance, n, many):
         else:
             told.append(random_deed(chance, n))
     return told
+
+
+# Rows of wholes (points 10, 19, 30)
+
+BY_LETTER = {"over": {"x": "+x", "y": "-y", "z": "-z"}, "quarter": {"x": "+y", "y": "-x", "z": "+z"},
+             "back": {"x": "-y", "y": "+x", "z": "+z"}, "both": {"x": "+z", "y": "-y", "z": "+x"}}
+
+
+def where_row(row, j, k):
+    """What a row becomes by where, by the words of point 10."""
+    minus, xs, zs = row
+    a, b = letter_at(row, j), letter_at(row, k)
+    if a in ("x", "y") and b in ("z", "y") and ((a == "x" and b == "z") or (a == "y" and b == "y")):
+        minus = 1 - minus
+    if a in ("x", "y"):
+        xs ^= 1 << k
+    if b in ("z", "y"):
+        zs ^= 1 << j
+    return (minus, xs, zs)
+
+
+def row_by_deed(words, row):
+    """Point 10."""
+    if words[0] == "where":
+        return where_row(row, words[1], words[2])
+    letters = {k: letter_at(row, k) for k in words[1:]}
+    if words[0] == "swap":
+        becomes = {words[1]: letters[words[2]], words[2]: letters[words[1]]}
+        sign = "+"
+    else:
+        sign, letter = BY_LETTER[words[0]].get(letters[words[1]], "+.")
+        becomes = {words[1]: letter}
+    mask = sum(1 << k for k in letters)
+    part = row_of_letters(row[0] ^ (sign == "-"), becomes)
+    return (part[0], row[1] & ~mask | part[1], row[2] & ~mask | part[2])
+
+
+def row_by_work(work, row):
+    for words in work:
+        row = row_by_deed(words, row)
+    return row
+
+
+def rows_of_work(work, n):
+    """Rows of the whole that comes of all wires up by the work."""
+    return [row_by_work(work, (0, 0, 1 << k)) for k in range(n)]
+
+
+def count(number):
+    return bin(number).count("1")
+
+
+def product(one, other, n):
+    """Point 6, by what the two do to the number 0: the other one meets the number xs of the one."""
+    xs, zs = one[1] ^ other[1], one[2] ^ other[2]
+    minuses = one[0] + other[0] + count(one[1] & other[2])
+    quarters = (2 * minuses + count(one[1] & one[2]) + count(other[1] & other[2]) - count(xs & zs)) % 4
+    assert quarters in (0, 2)
+    return (quarters // 2, xs, zs)
+
+
+def product_of_all(rows, n):
+    told = (0, 0, 0)
+    for row in rows:
+        told = product(told, row, n)
+    return told
+
+
+def all_products(rows, n):
+    told = [(0, 0, 0)]
+    for row in rows:
+        told += [product(other, row, n) for other in told]
+    return told
+
+
+def mixed(chance, rows, n):
+    """Other rows of the same whole."""
+    told = list(rows)
+    for turn in range(3 * n if n > 1 else 0):
+        one, other = chance.sample(range(n), 2)
+        told[one] = product(told[one], told[other], n)
+    chance.shuffle(told)
+    return told
+
+
+def random_rows_of_whole(chance, n, many=None):
+    work = random_work(chance, n, 4 * n + 4 if many is None else many)
+    return mixed(chance, rows_of_work(work, n), n)
+
+
+def is_one_of(row, rows, n):
+    """Whether the row, with its minus, is a product of some of the rows."""
+    return left_of(row, reduced(tuple(rows), n), n) == (0, 0, 0)
+
+
+@functools.lru_cache(maxsize=100)
+def reduced(rows, n):
+    kept = []
+    for other in rows:
+        left = left_of(other, kept, n)
+        if letters_number(left):
+            kept.append(left)
+    return kept
+
+
+def left_of(row, kept, n):
+    for other in kept:
+        number = letters_number(other)
+        if letters_number(row) & number & -number:
+            if not beside_by_letters(row, other, n):
+                return row
+            row = product(row, other, n)
+    return row
 
 
 # Sums of rows' letters

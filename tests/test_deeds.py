@@ -4,7 +4,7 @@ import random
 import unittest
 
 from helpers import (DEEDS, Refusing, all_deeds, all_rows, by_deed, by_row, letter_at, random_deed, random_row,
-                     random_whole, row_of_letters, same_by_a_factor)
+                     random_whole, row_of_letters, same_by_a_factor, where_row)
 
 from twinwires import deeds
 from twinwires.deeds import Deed, deed_of
@@ -266,19 +266,6 @@ class OnRow(unittest.TestCase):
                 alone = deed_of(words, n).on_row((row[0], row[1] & mask, row[2] & mask))
                 self.assertEqual(alone, (told[0], told[1] & mask, told[2] & mask))
                 self.assertLess(max(told[1], told[2]), 1 << n)
-
-
-def where_row(row, j, k):
-    """Point 10, by its words."""
-    minus, xs, zs = row
-    a, b = letter_at(row, j), letter_at(row, k)
-    if a in ("x", "y") and b in ("z", "y") and ((a == "x" and b == "z") or (a == "y" and b == "y")):
-        minus = 1 - minus
-    if a in ("x", "y"):
-        xs ^= 1 << k
-    if b in ("z", "y"):
-        zs ^= 1 << j
-    return (minus, xs, zs)
 
 
 class Undoing(unittest.TestCase):

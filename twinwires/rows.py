@@ -24,6 +24,14 @@ def checked_row(thing, n):
     return thing
 
 
+def is_row(thing, n):
+    try:
+        checked_row(thing, n)
+    except NoRow:
+        return False
+    return True
+
+
 def fits(number, n):
     return number >= 0 and number < 1 << n
 
@@ -53,6 +61,22 @@ def times(one, other):
 
 def letters_y(row):
     return ones(row[XS] & row[ZS])
+
+
+def product_of(rows):
+    product = (0, 0, 0)
+    for row in rows:
+        product = times(product, row)
+    return product
+
+
+def all_beside(rows):
+    return all([all([goes_beside(row, other) for other in rows[:k]]) for k, row in enumerate(rows)])
+
+
+def signs_number(row, n):
+    # The signs of a row as the bits of one number: x of each wire, then z of each wire.
+    return row[XS] | row[ZS] << n
 
 
 def letters_of(row, n):
