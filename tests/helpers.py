@@ -331,6 +331,33 @@ def left_of(row, kept, n):
     return row
 
 
+def right_rows(rows, n):
+    """Point 30."""
+    beside = all(beside_by_letters(one, other, n) for one in rows for other in rows)
+    return len(rows) == n and beside and rank_of_letters(rows) == n
+
+
+def wrong_lists(chance, n):
+    """Lists of rows that are refused with NoWhole."""
+    rows = random_rows_of_whole(chance, n)
+    told = [[], rows[:-1], rows + [rows[0]], rows + [(0, 0, 0)], rows + rows]
+    for k in range(min(n, 5)):
+        told.append(rows[:k] + [(0, 0, 0)] + rows[k + 1:])
+        told.append(rows[:k] + [(1, 0, 0)] + rows[k + 1:])
+        if n > 1:
+            others = rows[:k] + rows[k + 1:]
+            made = product_of_all(chance.sample(others, chance.randint(1, n - 1)), n)
+            for row in (others[0], minus_of(others[0]), others[-1], made, minus_of(made)):
+                told.append(rows[:k] + [row] + rows[k + 1:])
+            crossing = next(row for row in iter(lambda: random_row(chance, n), None)
+                            if not all(beside_by_letters(row, other, n) for other in others))
+            told.append(rows[:k] + [crossing] + rows[k + 1:])
+    if n > 1:
+        one, other = random_pair(chance, n, False)
+        told.append([one, other] + rows[2:])
+    return told
+
+
 # Sums of rows' letters
 
 def letters_number(row):

@@ -3,9 +3,8 @@
 import random
 import unittest
 
-from helpers import (Refusing, all_products, all_rows, beside_by_letters, by_row, by_work, is_one_of, minus_of, mixed,
-                     product, product_of_all, random_pair, random_row, random_rows_of_whole, random_work, rank_of_letters,
-                     rows_of_work)
+from helpers import (Refusing, all_products, all_rows, by_row, by_work, is_one_of, minus_of, mixed, product,
+                     product_of_all, random_rows_of_whole, random_work, right_rows, rows_of_work, wrong_lists)
 
 from twinwires.errors import NoWhole
 from twinwires.tellings import made_of, parting, same_rows, telling
@@ -13,36 +12,9 @@ from twinwires.tellings import made_of, parting, same_rows, telling
 SOME_N = (1, 2, 3, 6, 7, 20, 39, 40)
 
 
-def right_rows(rows, n):
-    """Point 30."""
-    beside = all(beside_by_letters(one, other, n) for one in rows for other in rows)
-    return len(rows) == n and beside and rank_of_letters(rows) == n
-
-
 def signs_in_order(row, n):
     """Point 31: the places, in the order of signs, of those that the row has."""
     return [k for k in range(n) if row[1] >> k & 1] + [n + k for k in range(n) if row[2] >> k & 1]
-
-
-def wrong_lists(chance, n):
-    """Lists of rows that are refused with NoWhole."""
-    rows = random_rows_of_whole(chance, n)
-    told = [[], rows[:-1], rows + [rows[0]], rows + [(0, 0, 0)], rows + rows]
-    for k in range(min(n, 5)):
-        told.append(rows[:k] + [(0, 0, 0)] + rows[k + 1:])
-        told.append(rows[:k] + [(1, 0, 0)] + rows[k + 1:])
-        if n > 1:
-            others = rows[:k] + rows[k + 1:]
-            made = product_of_all(chance.sample(others, chance.randint(1, n - 1)), n)
-            for row in (others[0], minus_of(others[0]), others[-1], made, minus_of(made)):
-                told.append(rows[:k] + [row] + rows[k + 1:])
-            crossing = next(row for row in iter(lambda: random_row(chance, n), None)
-                            if not all(beside_by_letters(row, other, n) for other in others))
-            told.append(rows[:k] + [crossing] + rows[k + 1:])
-    if n > 1:
-        one, other = random_pair(chance, n, False)
-        told.append([one, other] + rows[2:])
-    return told
 
 
 class Telling(Refusing):

@@ -24,3 +24,7 @@ def places(number):
 
 def bit_at(number, k):
     return (number >> k) & 1
+
+
+def lowest_bit(number):
+    return number & -number

@@ -1,5 +1,7 @@
 """Whole numbers whose bits are added without carrying: which of them are sums of which."""
 
+from twinwires.bits import lowest_bit, ones
+
 
 class Span:
     # Takes numbers, and keeps sums of them, each with a lead: its lowest bit, which no sum kept later has.
@@ -33,9 +35,15 @@ class Span:
     def rank(self):
         return len(self.sums)
 
-
-def lowest_bit(number):
-    return number & -number
+    def odd_with_last(self):
+        # A number with an odd number of bits in common with the last number taken, which is to be no sum of others,
+        # and an even one with each other. The last sum kept is the only one with the last number in it, and a bit
+        # that is a lead changes nothing for later sums: so from the last one on each lead sets its sum right.
+        found = self.sums[-1][0]
+        for lead, total, parts in reversed(self.sums[:-1]):
+            if ones(found & total) % 2 == 1:
+                found = found ^ lead
+        return found
 
 
 def are_apart(numbers):
